@@ -40,6 +40,9 @@ func TestCheckOK(t *testing.T) {
 				s.Tasks = append(s.Tasks, api.Task{Name: name, Period: 1, Deadline: 1, Prio: 100 + int(name[0]), Parts: []api.Part{{Kind: api.Run, Len: 1}}})
 			}
 		},
+		"one cluster": func(s *api.Set) {
+			s.Cores, s.Homes, s.Tasks = []int{3}, []int{0}, s.Tasks[:1]
+		},
 		"one task":     func(s *api.Set) { s.Tasks = s.Tasks[:1] },
 		"all parts":    func(s *api.Set) { s.Tasks[0].Parts = slices.Repeat(s.Tasks[0].Parts, api.MaxSegs) },
 		"deadline":     func(s *api.Set) { s.Tasks[1].Deadline = 3000 },
