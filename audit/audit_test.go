@@ -232,6 +232,23 @@ func TestJudgeErrs(t *testing.T) {
 		nil, 9, false, api.ErrCap)
 }
 
+// P27.2: what a run that Judge refuses would be like: late, or too long at a lock, or not right.
+func TestRefused(t *testing.T) {
+	for _, protocol := range protocols() {
+		s := three(protocol)
+		v := verdict(t, s)
+		ticks, _ := wait.Part(s, v.Bounds, 0, 1)
+		good := api.Trace{Ticks: 99, Jobs: []api.Done{{Task: 2, Finish: v.Bounds[2]}}, Waits: []api.Wait{{Task: 0, Part: 1, Finish: ticks}}}
+		late, long, wrong := good, good, good
+		late.Jobs = []api.Done{{Task: 2, Finish: v.Bounds[2] + 1}}
+		long.Waits = []api.Wait{{Task: 0, Part: 1, Finish: ticks + 1}}
+		wrong.Slots = []api.Slot{{Time: 99}}
+		if !right(s, v, good) || right(s, v, late) || right(s, v, long) || right(s, v, wrong) {
+			t.Errorf("P27.2: protocol %d: %v, %v, %v, %v", protocol, right(s, v, good), right(s, v, late), right(s, v, long), right(s, v, wrong))
+		}
+	}
+}
+
 // meeting: a set, and a tape, as chance has them; few ticks each, so that they meet.
 func meeting(chance *rand.Rand, protocol int) (api.Set, []byte) {
 	s := api.Set{Protocol: protocol}

@@ -217,6 +217,8 @@ func TestInvertedEdges(t *testing.T) {
 	for _, task := range []int{-1, 4, most, least} {
 		inverted(t, s, tr, done(task, 0, 9), 0)
 	}
+	// By the first task, and by the last one.
+	inverted(t, s, api.Trace{Slots: []api.Slot{slot(5, 1, 0), slot(6, 1, 3), slot(7, 0, 0)}}, done(2, 0, 9), 2)
 	// The one of greatest Prio is never blocked.
 	inverted(t, s, tr, done(1, 0, 9), 0)
 	inverted(t, s, tr, done(0, 0, 9), 2)
